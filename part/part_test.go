@@ -404,6 +404,21 @@ func TestWhateverWay(t *testing.T) {
 	}
 }
 
+// TestNoRoomOnTheWay: what would be let go later takes room until then, so one way may have an error that another hasn't.
+func TestNoRoomOnTheWay(t *testing.T) {
+	a, b, c := many(1, 0), many(40, 0), many(40, 0)
+	a.Frags[0].Group = "g"
+	for i := range b.Frags {
+		b.Frags[i].Group = "g"
+	}
+	p, e := Join(b, c)
+	wantErrno(t, "b and c first", p, e, api.ErrFull)
+	p, e = All([]api.Part{a, b, c})
+	want := many(41, 0)
+	want.Frags[0].Group = "g"
+	wantPart(t, "a and b first", p, e, want)
+}
+
 // TestDropOfSome: what is left has no such group, and what leads on leads to the same fragment as it did.
 func TestDropOfSome(t *testing.T) {
 	r := rand.New(rand.NewSource(4))
